@@ -13,8 +13,8 @@ def is_pointing(web, thing):
 
 
 def is_led(web, pointing):
-    """Whether wherever one arrow leads on to another one, a third one leads straight there."""
-    return first_break(web, pointing) is None
+    """Whether it is a pointing, and wherever one arrow leads on to another one, a third one leads straight there."""
+    return is_pointing(web, pointing) and first_break(web, pointing) is None
 
 
 def first_break(web, pointing):

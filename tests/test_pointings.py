@@ -119,6 +119,13 @@ class LedTest(unittest.TestCase):
             self.assertEqual(first_break(RING, pointing), min(breaks(RING, pointing)))
             self.assertIs(is_led(RING, pointing), False)
 
+    def test_what_is_no_pointing_is_not_led(self):
+        for thing in ([(0, 1)], ([0, 1],), ((0, True),), ((False, 1),), (), ((0, 1), (0, 1)), ((0, 2),), ((0, 0),)):
+            self.assertIs(is_led(PAIR, thing), False, thing)
+        for thing in odd_things():
+            for web in (PAIR, TRIANGLE, PATH):
+                self.assertIs(is_led(web, thing), False, thing)
+
     def test_twelve_places(self):
         ties = tuple((a, b) for a in range(12) for b in range(a + 1, 12))
         self.assertIs(is_led((12, ties), ties), True)
