@@ -16,6 +16,91 @@ def small_webs():
         yield from all_webs(many)
 
 
+def five_webs():
+    """All webs of up to five places."""
+    yield from small_webs()
+    yield from all_webs(5)
+
+
+def full(many):
+    return (many, tuple(combinations(range(many), 2)))
+
+
+def line(many):
+    return (many, tuple((k, k + 1) for k in range(many - 1)))
+
+
+def ring(many):
+    return (many, tuple(sorted([(k, k + 1) for k in range(many - 1)] + [(0, many - 1)])))
+
+
+def groups(*sizes):
+    """Places in groups, tied where they are in two unlike ones."""
+    group_of = [at for at, size in enumerate(sizes) for _ in range(size)]
+    many = len(group_of)
+    return (many, tuple((a, b) for a, b in combinations(range(many), 2) if group_of[a] != group_of[b]))
+
+
+def beside(*webs):
+    """Webs beside one another, without ties between them."""
+    many, ties = 0, ()
+    for size, inner in webs:
+        ties += tuple((many + a, many + b) for a, b in inner)
+        many += size
+    return (many, ties)
+
+
+def crossed(row):
+    """The web of a row's places, tied where the greater one stands ahead: it can be pointed."""
+    many = len(row)
+    return (many, tuple((a, b) for a, b in combinations(range(many), 2) if row.index(b) < row.index(a)))
+
+
+def twelve_webs():
+    """Webs of twelve places that can be pointed."""
+    yield from ((12, ()), full(12), line(12), ring(12), groups(3, 4, 5), groups(1, 2, 2, 7), groups(*[2] * 6))
+    yield from (beside(full(4), full(4), full(4)), beside(line(5), ring(6), full(1)), beside(groups(2, 3), full(7)))
+    yield crossed([3, 7, 0, 11, 5, 1, 9, 2, 10, 4, 8, 6])
+    yield crossed([11, 9, 10, 6, 8, 7, 3, 5, 4, 0, 2, 1])
+    yield crossed([1, 3, 0, 5, 2, 7, 4, 9, 6, 11, 8, 10])
+    yield crossed([2, 1, 0, 5, 4, 3, 8, 7, 6, 11, 10, 9])
+
+
+def barred_webs():
+    """Webs that have a round."""
+    yield from (ring(5), ring(7), ring(9), ring(11), beside(ring(5), ring(7)), beside(line(5), ring(7)))
+    for many in range(6, 13):
+        # The gaps of a ring.
+        yield (many, tuple(tie for tie in full(many)[1] if tie not in ring(many)[1]))
+
+
+def all_arrows(web):
+    """All arrows of a web, as they rise."""
+    return sorted([(a, b) for a, b in web[1]] + [(b, a) for a, b in web[1]])
+
+
+def have_gap(web, a, b):
+    return a != b and (a, b) not in web[1] and (b, a) not in web[1]
+
+
+def force_by_words(web, one, other):
+    """Whether two arrows force one another, by the words of the document."""
+    if one == other:
+        return False
+    (a, b), (c, d) = one, other
+    return (a == c and have_gap(web, b, d)) or (b == d and have_gap(web, a, c))
+
+
+def led_by_words(web):
+    """All led pointings, as they rise, gone through one by one."""
+    return sorted(pointing for pointing in all_pointings(web) if is_led_by_words(pointing))
+
+
+def is_led_by_words(pointing):
+    there = set(pointing)
+    return all((a, d) in there for a, b in pointing for c, d in pointing if b == c)
+
+
 def all_pointings(web):
     for ups in product((True, False), repeat=len(web[1])):
         yield tuple((a, b) if up else (b, a) for up, (a, b) in zip(ups, web[1]))

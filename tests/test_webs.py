@@ -2,16 +2,12 @@ import unittest
 from itertools import combinations, permutations
 
 from pointedties.webs import gaps_of, is_web, part_of, put_for, renumbered, tied
-from tests.samples import odd_things, small_webs
+from tests.samples import full, odd_things, small_webs
 
 PATH = (4, ((0, 1), (1, 2), (2, 3)))
 PAIR = (2, ((0, 1),))
 APART = (2, ())
 TRIANGLE = (3, ((0, 1), (0, 2), (1, 2)))
-
-
-def full(many):
-    return (many, tuple(combinations(range(many), 2)))
 
 
 class IsWebTest(unittest.TestCase):

@@ -1,0 +1,124 @@
+"""Point [2]: what is told is the asker's own, and what is handed in stays as it was."""
+
+import unittest
+from copy import deepcopy
+
+from pointedties.forcings import bundles, class_of, classes, forced, forcing_way
+from pointedties.leading import can_be_pointed, extended, pointed, settled
+from pointedties.modules import is_module, least_module, parts_of, places_in, shape_of
+from pointedties.waycheck import shows_round, shows_way
+from tests.samples import all_arrows, beside, full, groups, line, ring
+
+WEBS = ((0, ()), (1, ()), (4, ()), line(2), line(4), line(12), ring(5), ring(7), full(4), full(12), groups(1, 2, 2),
+        beside(ring(5), line(3)), beside(line(3), ring(5)))
+
+
+def questions(web):
+    """Functions with what they are handed, of one web; no list is handed to two of them."""
+    yield from ((classes, (web,)), (bundles, (web,)), (pointed, (web,)), (can_be_pointed, (web,)), (parts_of, (web,)))
+    yield from ((settled, (web, [])), (extended, (web, [])), (is_module, (web, [])))
+    arrows = all_arrows(web)
+    for arrow in arrows[::3]:
+        yield from ((forced, (web, arrow)), (class_of, (web, arrow)), (settled, (web, [arrow])))
+        yield from ((extended, (web, [arrow, arrow])), (settled, (web, [arrow, arrows[-1], arrows[0]])))
+        for other in (arrow, arrows[0], (arrow[1], arrow[0])):
+            yield forcing_way, (web, arrow, other)
+            yield from ((shows_way, (web, arrow, other, [arrow, other])), (shows_round, (web, [arrow, other])))
+    for places in ([0], [0, 2], list(range(web[0]))):
+        if places and places[-1] < web[0]:
+            yield from ((is_module, (web, list(places))), (least_module, (web, list(places))))
+    tree = parts_of(web)
+    if tree is not None:
+        yield places_in, (tree,)
+        if tree[0] != "place":
+            yield shape_of, (web, tree)
+
+
+def lists_in(told):
+    """All lists within what is told, itself too."""
+    if isinstance(told, list):
+        yield told
+    if isinstance(told, (list, tuple)):
+        for part in told:
+            yield from lists_in(part)
+
+
+def spoil(told):
+    for one in list(lists_in(told)):
+        one.append("spoilt")
+        one.reverse()
+
+
+class OwnTest(unittest.TestCase):
+    def test_told_lists_changed_and_asked_again(self):
+        for web in WEBS:
+            for ask, handed in questions(web):
+                told = ask(*handed)
+                before = deepcopy(told)
+                spoil(told)
+                self.assertEqual(ask(*handed), before, (ask, handed))
+
+    def test_no_two_told_lists_are_one(self):
+        for web in WEBS:
+            # All answers are held at once, so no two lists can have one address by chance.
+            held = [(ask(*handed), handed) for ask, handed in questions(web) for _ in range(2)]
+            told = [one for answer, handed in held for one in lists_in(answer)]
+            self.assertEqual(len({id(one) for one in told}), len(told))
+            given = {id(one) for answer, handed in held for one in lists_in(handed)}
+            self.assertFalse(given & {id(one) for one in told})
+
+    def test_what_is_handed_in_stays(self):
+        for web in WEBS:
+            for ask, handed in questions(web):
+                before = deepcopy(handed)
+                ask(*handed)
+                self.assertEqual(handed, before, ask)
+
+    def test_what_is_handed_in_is_not_kept(self):
+        for web in WEBS:
+            for ask, handed in questions(web):
+                again = deepcopy(handed)
+                told = ask(*handed)
+                before = deepcopy(told)
+                spoil(handed)
+                self.assertEqual(told, before, ask)
+                self.assertEqual(ask(*again), before, ask)
+
+    def test_another_web_asked_between(self):
+        for web in WEBS:
+            first = [ask(*handed) for ask, handed in questions(web)]
+            before = deepcopy(first)
+            for other in WEBS:
+                for ask, handed in questions(other):
+                    spoil(ask(*handed))
+            self.assertEqual(first, before)
+            self.assertEqual([ask(*handed) for ask, handed in questions(web)], before)
+
+    def test_what_was_told_may_be_handed_in_again(self):
+        for web in WEBS:
+            kind, told = pointed(web)
+            if kind == "led":
+                self.assertEqual(extended(web, list(told)), told)
+                self.assertEqual(settled(web, settled(web, list(told))), sorted(told))
+            else:
+                self.assertIs(shows_round(web, told), True)
+                self.assertEqual(forcing_way(web, told[0], told[-1]), told)
+            for place in range(web[0]):
+                self.assertEqual(least_module(web, least_module(web, [place])), [place])
+
+    def test_told_kinds(self):
+        for web in WEBS:
+            for ask in (classes, bundles):
+                told = ask(web)
+                self.assertIsInstance(told, list)
+                for part in told:
+                    self.assertIsInstance(part, list)
+                    self.assertTrue(all(isinstance(arrow, tuple) for arrow in part))
+            self.assertIn(can_be_pointed(web), (True, False))
+            self.assertIsInstance(can_be_pointed(web), bool)
+            kind, told = pointed(web)
+            self.assertIsInstance(told, tuple if kind == "led" else list)
+
+
+if __name__ == "__main__":
+    unittest.main()
