@@ -77,4 +77,9 @@ def filled(web, forcings, known):
     for a, b in web[1]:
         if (b, a) not in known:
             follow(forcings, known, (a, b))
+    return pointing_of(web, known)
+
+
+def pointing_of(web, known):
+    """The pointing whose arrows are known, one for each tie."""
     return tuple([(a, b) if (a, b) in known else (b, a) for a, b in web[1]])

@@ -1,14 +1,13 @@
 """Modules: sets of places that all others see alike, and the tree of parts that a web is put together of."""
 
-from pointedties.kinds import is_number
-from pointedties.webs import gaps_of, part_of, tied
+from pointedties.webs import gaps_of, is_place, part_of, tied
 
 
 def is_module(web, places):
     """Whether places are a rising list, one at least, and each place out of it is tied to all of these or to none."""
     if not isinstance(places, list) or not places:
         return False
-    if not all(is_number(place) and 0 <= place < web[0] for place in places):
+    if not all(is_place(web, place) for place in places):
         return False
     # What least_module tells rises, so places that don't rise are unlike it.
     return least_module(web, places) == places

@@ -14,6 +14,10 @@ def is_web(thing):
     return all(is_tie(many, tie) for tie in ties) and is_rising(ties)
 
 
+def is_place(web, thing):
+    return is_number(thing) and 0 <= thing < web[0]
+
+
 def is_tie(many, thing):
     return is_pair(thing) and 0 <= thing[0] < thing[1] < many
 

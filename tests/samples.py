@@ -2,6 +2,8 @@
 
 from itertools import combinations, product
 
+from pointedties.forcings import classes
+
 
 def all_webs(many):
     pairs = list(combinations(range(many), 2))
@@ -48,6 +50,21 @@ def beside(*webs):
         ties += tuple((many + a, many + b) for a, b in inner)
         many += size
     return (many, ties)
+
+
+def tied_together(*webs):
+    """Webs beside one another, with all ties between them."""
+    many, ties = 0, []
+    for size, inner in webs:
+        ties += [(many + a, many + b) for a, b in inner]
+        ties += [(a, many + b) for a in range(many) for b in range(size)]
+        many += size
+    return (many, tuple(sorted(ties)))
+
+
+def star(many):
+    """One place tied to all others, which aren't tied."""
+    return (many, tuple((0, k) for k in range(1, many)))
 
 
 def crossed(row):
@@ -104,6 +121,43 @@ def is_led_by_words(pointing):
 def all_pointings(web):
     for ups in product((True, False), repeat=len(web[1])):
         yield tuple((a, b) if up else (b, a) for up, (a, b) in zip(ups, web[1]))
+
+
+def turned(arrow):
+    return (arrow[1], arrow[0])
+
+
+def led_by_bundles(web):
+    """All led pointings, as they rise: a led one has all arrows of a class, or none, so each bundle goes either way."""
+    found = []
+    if any(turned(arrow) in members for members in classes(web) for arrow in members):
+        return found
+    # Of a class and the turned one the lesser.
+    firsts = [members for members in classes(web) if members < sorted(turned(arrow) for arrow in members)]
+    for ups in product((True, False), repeat=len(firsts)):
+        there = {arrow if up else turned(arrow) for up, members in zip(ups, firsts) for arrow in members}
+        pointing = tuple(tie if tie in there else turned(tie) for tie in web[1])
+        if is_led_by_words(pointing):
+            found.append(pointing)
+    return sorted(found)
+
+
+def rising_lists(places):
+    """All rising lists of some of these places, shorter ones first."""
+    for size in range(len(places) + 1):
+        for chosen in combinations(places, size):
+            yield list(chosen)
+
+
+def place(number):
+    return ("place", number)
+
+
+def nodes_of(tree):
+    yield tree
+    if tree[0] != "place":
+        for part in tree[1]:
+            yield from nodes_of(part)
 
 
 def nested(kind, depth, inside):

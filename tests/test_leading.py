@@ -1,34 +1,15 @@
 import unittest
 from itertools import combinations, permutations, product
 
-from pointedties.forcings import bundles, classes, forcing_way
+from pointedties.forcings import bundles, forcing_way
 from pointedties.leading import can_be_pointed, extended, pointed, settled
 from pointedties.pointings import by_row, is_led, is_pointing
 from pointedties.waycheck import shows_round
 from pointedties.webs import gaps_of, put_for, renumbered
 from tests.samples import (
-    all_arrows, all_webs, barred_webs, beside, five_webs, full, groups, is_led_by_words, led_by_words, line, ring,
-    small_webs, twelve_webs,
+    all_arrows, all_webs, barred_webs, beside, five_webs, full, groups, is_led_by_words, led_by_bundles, led_by_words,
+    line, ring, small_webs, turned, twelve_webs,
 )
-
-
-def turned(arrow):
-    return (arrow[1], arrow[0])
-
-
-def led_by_bundles(web):
-    """All led pointings, as they rise: a led one has all arrows of a class, or none, so each bundle goes either way."""
-    found = []
-    if any(turned(arrow) in members for members in classes(web) for arrow in members):
-        return found
-    # Of a class and the turned one the lesser.
-    firsts = [members for members in classes(web) if members < sorted(turned(arrow) for arrow in members)]
-    for ups in product((True, False), repeat=len(firsts)):
-        there = {arrow if up else turned(arrow) for up, members in zip(ups, firsts) for arrow in members}
-        pointing = tuple(tie if tie in there else turned(tie) for tie in web[1])
-        if is_led_by_words(pointing):
-            found.append(pointing)
-    return sorted(found)
 
 
 def least_round(web):

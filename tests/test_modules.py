@@ -5,19 +5,9 @@ from pointedties.forcings import bundles
 from pointedties.modules import is_module, least_module, parts_of, places_in, shape_of
 from pointedties.webs import gaps_of, part_of, put_for, renumbered, tied
 from tests.samples import (
-    all_webs, barred_webs, beside, five_webs, full, groups, line, odd_things, ring, small_webs, twelve_webs,
+    all_webs, barred_webs, beside, five_webs, full, groups, line, nodes_of, odd_things, place, ring, rising_lists,
+    small_webs, twelve_webs,
 )
-
-
-def place(number):
-    return ("place", number)
-
-
-def rising_lists(places):
-    """All rising lists of some of these places, shorter ones first."""
-    for size in range(len(places) + 1):
-        for chosen in combinations(places, size):
-            yield list(chosen)
 
 
 def is_module_by_words(web, everything, places):
@@ -52,13 +42,6 @@ def tree_by_words(web, places):
     modules = [part for part in rising_lists(places) if part != places and is_module_by_words(web, places, part)]
     greatest = [part for part in modules if not any(set(part) < set(other) for other in modules)]
     return ("close", tuple(tree_by_words(web, part) for part in sorted(greatest)))
-
-
-def nodes_of(tree):
-    yield tree
-    if tree[0] != "place":
-        for part in tree[1]:
-            yield from nodes_of(part)
 
 
 def bundles_by_parts(web, tree):

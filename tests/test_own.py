@@ -5,8 +5,13 @@ from copy import deepcopy
 
 from pointedties.forcings import bundles, class_of, classes, forced, forcing_way
 from pointedties.leading import can_be_pointed, extended, pointed, settled
+from pointedties.modulecheck import shows_parts
 from pointedties.modules import is_module, least_module, parts_of, places_in, shape_of
+from pointedties.ordercheck import shows_longest, shows_widest
+from pointedties.orders import heights, longest_chain, lots_by, widest
+from pointedties.pointings import turned_about
 from pointedties.waycheck import shows_round, shows_way
+from pointedties.ways import all_ways, common_to, count_ways
 from tests.samples import all_arrows, beside, full, groups, line, ring
 
 WEBS = ((0, ()), (1, ()), (4, ()), line(2), line(4), line(12), ring(5), ring(7), full(4), full(12), groups(1, 2, 2),
@@ -29,9 +34,27 @@ def questions(web):
             yield from ((is_module, (web, list(places))), (least_module, (web, list(places))))
     tree = parts_of(web)
     if tree is not None:
-        yield places_in, (tree,)
+        yield from ((places_in, (tree,)), (shows_parts, (web, tree)), (shows_parts, (web, [[tree], tree[1]])))
         if tree[0] != "place":
             yield shape_of, (web, tree)
+    yield count_ways, (web,)
+    if web[0] <= 7:
+        yield all_ways, (web,)
+    if can_be_pointed(web):
+        first = pointed(web)[1]
+        yield from questions_of_pointing(web, first)
+        yield from questions_of_pointing(web, turned_about(first))
+        yield common_to, (web, [first, turned_about(first)])
+
+
+def questions_of_pointing(web, pointing):
+    for ask in (heights, longest_chain, lots_by, widest):
+        yield ask, (web, pointing)
+    yield from ((common_to, (web, [pointing])), (common_to, (web, [pointing, pointing])))
+    yield shows_longest, (web, longest_chain(web, pointing), lots_by(web, pointing))
+    lot, chains = widest(web, pointing)
+    yield shows_widest, (web, lot, chains)
+    yield shows_longest, (web, list(lot), [list(chain) for chain in chains])
 
 
 def lists_in(told):
@@ -105,6 +128,19 @@ class OwnTest(unittest.TestCase):
                 self.assertEqual(forcing_way(web, told[0], told[-1]), told)
             for place in range(web[0]):
                 self.assertEqual(least_module(web, least_module(web, [place])), [place])
+            if kind == "led" and web[0] <= 7:
+                self.assertEqual(common_to(web, all_ways(web)), [])
+
+    def test_another_pointing_asked_between(self):
+        for web in WEBS:
+            if can_be_pointed(web):
+                first = pointed(web)[1]
+                before = [ask(*handed) for ask, handed in questions_of_pointing(web, first)]
+                wanted = deepcopy(before)
+                for ask, handed in questions_of_pointing(web, turned_about(first)):
+                    spoil(ask(*handed))
+                self.assertEqual(before, wanted)
+                self.assertEqual([ask(*handed) for ask, handed in questions_of_pointing(web, first)], wanted)
 
     def test_told_kinds(self):
         for web in WEBS:
