@@ -34,20 +34,20 @@ def is_right(web, tree):
         return False
     if kind == "close":
         return is_close(web, tree, sets)
-    # What is tied throughout, or parted throughout, is joined no further: a tree of the node's own kind would be.
+    # A tree of the node's own kind would have several of the sets that ties, or gaps, join, instead of one.
     return are_between(web, sets, kind == "all") and not any(part[0] == kind for part in inside)
 
 
 def are_between(web, sets, wanted):
-    """Whether all places of two unlike sets are tied, or none are, as wanted."""
+    """Whether each two places of unlike sets are tied, or none are, as wanted."""
     pairs = [(one, other) for at, one in enumerate(sets) for other in sets[:at]]
     return all(tied(web, a, b) == wanted for one, other in pairs for a in one for b in other)
 
 
 def is_close(web, tree, sets):
-    """Whether the sets are modules, and nothing but one of them, or all, is a module of theirs."""
+    """Whether the sets are modules, and no several of them together are one, but all."""
     places = places_in(tree)
-    # Two sets are all tied or parted. Of three or more, this leaves no shape that only ties, or only gaps, join.
+    # Two sets are all tied or all parted. Three or more that have no other modules are joined by ties and by gaps.
     if len(sets) == 2 or not all(least_among(web, places, part) == part for part in sets):
         return False
     shape = shape_of(web, tree)

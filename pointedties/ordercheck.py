@@ -33,7 +33,6 @@ def is_lot(web, thing):
 
 
 def has_each_once(web, sets):
-    """Whether each place is in just one of some sets of places, none empty."""
-    if not all(len(part) > 0 for part in sets):
-        return False
+    """Whether each place is in just one of some sets of places."""
+    # No set is asked whether it is empty: where the other side has as many places, each is in a set of its own.
     return sorted([place for part in sets for place in part]) == list(range(web[0]))
