@@ -1,5 +1,6 @@
 """Pointed or barred: the first led pointing of a web, or a round that bars any."""
 
+from pointedties.errors import Barred
 from pointedties.forcings import classes_in, forcings_of, way_in
 
 
@@ -10,6 +11,14 @@ def pointed(web):
     if ring is not None:
         return ("barred", ring)
     return ("led", filled(web, forcings, {}))
+
+
+def first_led(web):
+    """The first led pointing of a web; refused with Barred where a round bars any."""
+    kind, found = pointed(web)
+    if kind == "barred":
+        raise Barred(found)
+    return found
 
 
 def can_be_pointed(web):

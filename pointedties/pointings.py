@@ -44,8 +44,13 @@ def turned_about(pointing):
 
 def by_row(web, row):
     """The pointing in which each arrow goes from the place that stands ahead in row, a list of all places."""
-    stand = {place: at for at, place in enumerate(row)}
+    stand = stands_in(row)
     return tuple([(a, b) if stand[a] < stand[b] else (b, a) for a, b in web[1]])
+
+
+def stands_in(row):
+    """For each place how many stand ahead of it in a row."""
+    return {place: at for at, place in enumerate(row)}
 
 
 def row_by(web, pointing):

@@ -10,8 +10,11 @@ from pointedties.modules import is_module, least_module, parts_of, places_in, sh
 from pointedties.ordercheck import shows_longest, shows_widest
 from pointedties.orders import heights, longest_chain, lots_by, widest
 from pointedties.pointings import turned_about
+from pointedties.rows import crossed_pointing, crossed_web, crossings
+from pointedties.stretches import apart_pointing, apart_web, stretches_for
 from pointedties.waycheck import shows_round, shows_way
 from pointedties.ways import all_ways, common_to, count_ways
+from pointedties.webfew import fewest_groups, greatest_tied, greatest_untied, is_shared
 from tests.samples import all_arrows, beside, full, groups, line, ring
 
 WEBS = ((0, ()), (1, ()), (4, ()), line(2), line(4), line(12), ring(5), ring(7), full(4), full(12), groups(1, 2, 2),
@@ -37,7 +40,8 @@ def questions(web):
         yield from ((places_in, (tree,)), (shows_parts, (web, tree)), (shows_parts, (web, [[tree], tree[1]])))
         if tree[0] != "place":
             yield shape_of, (web, tree)
-    yield count_ways, (web,)
+    yield from ((count_ways, (web,)), (stretches_for, (web,)))
+    yield from questions_of_rows(web[0])
     if web[0] <= 7:
         yield all_ways, (web,)
     if can_be_pointed(web):
@@ -45,6 +49,18 @@ def questions(web):
         yield from questions_of_pointing(web, first)
         yield from questions_of_pointing(web, turned_about(first))
         yield common_to, (web, [first, turned_about(first)])
+        for ask in (greatest_tied, fewest_groups, greatest_untied, is_shared):
+            yield ask, (web,)
+
+
+def questions_of_rows(many):
+    """Asked by so many stretches, and by rows of so many places."""
+    for ask in (apart_web, apart_pointing):
+        yield from ((ask, ([(k, k) for k in range(many)],)), (ask, ([(-k, k % 3) for k in range(many)],)))
+    for ask in (crossed_web, crossed_pointing, crossings):
+        yield ask, (list(range(many)), list(range(many - 1, -1, -1)))
+        yield ask, (list(range(many)), list(range(many)))
+        yield ask, (list(range(0, many, 2)) + list(range(1, many, 2)), list(range(many)))
 
 
 def questions_of_pointing(web, pointing):
@@ -130,6 +146,12 @@ class OwnTest(unittest.TestCase):
                 self.assertEqual(least_module(web, least_module(web, [place])), [place])
             if kind == "led" and web[0] <= 7:
                 self.assertEqual(common_to(web, all_ways(web)), [])
+            kind, told = stretches_for(web)
+            if kind == "stretches":
+                self.assertEqual(apart_web(told), web)
+                self.assertEqual(stretches_for(apart_web(told)), (kind, told))
+            row = list(range(web[0]))
+            self.assertEqual([crossings(row, row), crossed_web(row, row)], [[], (web[0], ())])
 
     def test_another_pointing_asked_between(self):
         for web in WEBS:
