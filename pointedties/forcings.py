@@ -23,7 +23,7 @@ def bundles(web):
     """The rising list of all bundles, the ties of a class each."""
     told = []
     for arrows in classes(web):
-        ties = sorted({tie_of(a, b) for a, b in arrows})
+        ties = ties_of(arrows)
         # A class and the one with all its arrows turned have the same ties.
         if ties not in told:
             told.append(ties)
@@ -33,6 +33,11 @@ def bundles(web):
 def forcing_way(web, one, other):
     """The first of the shortest lists of arrows from one to other, each forcing the next; None if there is none."""
     return way_in(forcings_of(web), one, other)
+
+
+def ties_of(arrows):
+    """The rising list of the ties that arrows point."""
+    return sorted({tie_of(a, b) for a, b in arrows})
 
 
 def tied_places(web):

@@ -1,7 +1,15 @@
 """Two rows crossed: places are tied where they stand otherwise in both."""
 
+from pointedties.kinds import is_number
 from pointedties.pointings import by_row, stands_in
 from pointedties.webs import tie_of
+
+
+def is_row(many, thing):
+    """Whether a thing is a list of all numbers from 0 to below many, each once."""
+    if not isinstance(thing, list) or not all(is_number(number) for number in thing):
+        return False
+    return sorted(thing) == list(range(many))
 
 
 def crossed_web(one, other):

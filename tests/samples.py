@@ -1,8 +1,15 @@
 """Webs, pointings and odd things that several tests go through."""
 
-from itertools import combinations, product
+from itertools import combinations, permutations, product
 
 from pointedties.forcings import classes
+from pointedties.webs import tied
+
+TWELVE_ROWS = (
+    list(range(12)), list(range(11, -1, -1)), [7, 0, 11, 3, 5, 1, 9, 2, 10, 4, 8, 6],
+    [1, 0, 3, 2, 5, 4, 7, 6, 9, 8, 11, 10], [6, 7, 8, 9, 10, 11, 0, 1, 2, 3, 4, 5],
+    [11, 9, 10, 6, 8, 7, 3, 5, 4, 0, 2, 1], [0, 2, 4, 6, 8, 10, 1, 3, 5, 7, 9, 11],
+)
 
 
 def all_webs(many):
@@ -108,6 +115,23 @@ def force_by_words(web, one, other):
     return (a == c and have_gap(web, b, d)) or (b == d and have_gap(web, a, c))
 
 
+def joined_by_words(web):
+    """All classes, made by joining the arrows of each forcing one by one."""
+    class_at = {arrow: [arrow] for arrow in all_arrows(web)}
+    for one in all_arrows(web):
+        for other in all_arrows(web):
+            if force_by_words(web, one, other) and other not in class_at[one]:
+                class_at[one] += class_at[other]
+                for arrow in class_at[other]:
+                    class_at[arrow] = class_at[one]
+    return sorted({tuple(sorted(members)) for members in class_at.values()})
+
+
+def bundles_by_words(web):
+    """All bundles, the ties of each class, as they rise."""
+    return sorted({tuple(sorted({tuple(sorted(arrow)) for arrow in members})) for members in joined_by_words(web)})
+
+
 def led_by_words(web):
     """All led pointings, as they rise, gone through one by one."""
     return sorted(pointing for pointing in all_pointings(web) if is_led_by_words(pointing))
@@ -142,11 +166,34 @@ def led_by_bundles(web):
     return sorted(found)
 
 
+def all_rows(many):
+    return [list(row) for row in permutations(range(many))]
+
+
+def rows_by_words(web, pointing):
+    """All rows that a pointing lets stand, gone through list by list."""
+    return [row for row in all_rows(web[0]) if all(row.index(a) < row.index(b) for a, b in pointing)]
+
+
+def chains_by_words(web, pointing):
+    """All chains of a led pointing, as tuples rise, put together place by place."""
+    found = [(place,) for place in range(web[0])]
+    for chain in found:
+        found += [chain + (b,) for a, b in pointing if a == chain[-1]]
+    return sorted(found)
+
+
 def rising_lists(places):
     """All rising lists of some of these places, shorter ones first."""
     for size in range(len(places) + 1):
         for chosen in combinations(places, size):
             yield list(chosen)
+
+
+def tied_sets(web):
+    """All rising lists of places of which each two are tied, that of no places too."""
+    lists = rising_lists(range(web[0]))
+    return [places for places in lists if all(tied(web, a, b) for a, b in combinations(places, 2))]
 
 
 def place(number):
@@ -166,6 +213,39 @@ def nested(kind, depth, inside):
     for _ in range(depth):
         thing = kind([thing])
     return thing
+
+
+def is_number_by_words(thing):
+    return isinstance(thing, int) and thing is not True and thing is not False
+
+
+def are_places(web, things):
+    return all(is_number_by_words(thing) and 0 <= thing < web[0] for thing in things)
+
+
+def is_chain_by_words(web, thing):
+    if not isinstance(thing, tuple) or not are_places(web, thing) or len(set(thing)) < len(thing):
+        return False
+    return all(tied(web, a, b) for a, b in combinations(thing, 2))
+
+
+def is_lot_by_words(web, thing):
+    if not isinstance(thing, list) or not are_places(web, thing) or thing != sorted(set(thing)):
+        return False
+    return not any(tied(web, a, b) for a, b in combinations(thing, 2))
+
+
+def spoilt_places(web, places):
+    """A tuple or a list of places spoilt in one thing."""
+    kind = type(places)
+    yield from (list(places) if kind is tuple else tuple(places), kind([places]), str(places), kind(reversed(places)))
+    yield from (places + places, places + places[:1], None, True, 0, (), [], "")
+    for at, place in enumerate(places):
+        yield places[:at] + places[at + 1:]
+        others = (place - 1, place + 1, -1, -place - 1, web[0], 10 ** 30, str(place), None, True, False)
+        yield from (places[:at] + kind([other]) + places[at + 1:] for other in others + ([place], (place,)))
+        yield from (places[:at] + kind([other]) + places[at:] for other in list(range(web[0] + 1)) + [None, True, ""])
+    yield from (places + kind([other]) for other in range(-1, web[0] + 1))
 
 
 def odd_things():

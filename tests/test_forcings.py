@@ -3,23 +3,12 @@ import unittest
 from pointedties.forcings import bundles, class_of, classes, forced, forcing_way
 from pointedties.waycheck import shows_way
 from tests.samples import (
-    all_arrows, barred_webs, beside, five_webs, force_by_words, full, groups, line, ring, small_webs, twelve_webs,
+    all_arrows, barred_webs, beside, five_webs, force_by_words, full, groups, joined_by_words, line, ring, small_webs,
+    turned, twelve_webs,
 )
 
 SOME = (line(5), line(6), ring(5), ring(6), ring(7), groups(2, 2), groups(2, 3), groups(1, 2, 3), groups(2, 2, 2),
         (6, ()), full(5), beside(line(3), ring(5)), beside(full(3), line(4)))
-
-
-def joined_by_words(web):
-    """All classes, made by joining the arrows of each forcing one by one."""
-    class_at = {arrow: [arrow] for arrow in all_arrows(web)}
-    for one in all_arrows(web):
-        for other in all_arrows(web):
-            if force_by_words(web, one, other) and other not in class_at[one]:
-                class_at[one] += class_at[other]
-                for arrow in class_at[other]:
-                    class_at[arrow] = class_at[one]
-    return sorted({tuple(sorted(members)) for members in class_at.values()})
 
 
 def shortest_ways(web, one, other):
@@ -35,10 +24,6 @@ def shortest_ways(web, one, other):
         ]
         seen |= {way[-1] for way in ways}
     return []
-
-
-def turned(arrow):
-    return (arrow[1], arrow[0])
 
 
 class ForcedTest(unittest.TestCase):

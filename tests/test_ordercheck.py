@@ -5,35 +5,15 @@ from pointedties.leading import pointed
 from pointedties.ordercheck import shows_longest, shows_widest
 from pointedties.orders import longest_chain, lots_by, widest
 from pointedties.pointings import turned_about
-from pointedties.webs import tied
 from tests.samples import (
-    all_webs, beside, five_webs, full, groups, line, odd_things, ring, small_webs, star, tied_together, twelve_webs,
+    all_webs, beside, five_webs, full, groups, is_chain_by_words, is_lot_by_words, line, odd_things, ring, small_webs,
+    spoilt_places, star, tied_together, twelve_webs,
 )
 
 WEBS = (
     (0, ()), (1, ()), (2, ()), line(2), line(3), line(4), ring(4), full(4), (4, ()), groups(2, 3), star(5),
     beside(full(3), line(3)), tied_together(line(4), (2, ())), groups(1, 2, 2),
 )
-
-
-def is_number_by_words(thing):
-    return isinstance(thing, int) and thing is not True and thing is not False
-
-
-def are_places(web, things):
-    return all(is_number_by_words(thing) and 0 <= thing < web[0] for thing in things)
-
-
-def is_chain_by_words(web, thing):
-    if not isinstance(thing, tuple) or not are_places(web, thing) or len(set(thing)) < len(thing):
-        return False
-    return all(tied(web, a, b) for a, b in combinations(thing, 2))
-
-
-def is_lot_by_words(web, thing):
-    if not isinstance(thing, list) or not are_places(web, thing) or thing != sorted(set(thing)):
-        return False
-    return not any(tied(web, a, b) for a, b in combinations(thing, 2))
 
 
 def parts_by_words(web, things, is_part, many):
@@ -49,19 +29,6 @@ def longest_by_words(web, chain, lots):
 
 def widest_by_words(web, lot, chains):
     return is_lot_by_words(web, lot) and parts_by_words(web, chains, is_chain_by_words, len(lot))
-
-
-def spoilt_places(web, places):
-    """A tuple or a list of places spoilt in one thing."""
-    kind = type(places)
-    yield from (list(places) if kind is tuple else tuple(places), kind([places]), str(places), kind(reversed(places)))
-    yield from (places + places, places + places[:1], None, True, 0, (), [], "")
-    for at, place in enumerate(places):
-        yield places[:at] + places[at + 1:]
-        others = (place - 1, place + 1, -1, -place - 1, web[0], 10 ** 30, str(place), None, True, False)
-        yield from (places[:at] + kind([other]) + places[at + 1:] for other in others + ([place], (place,)))
-        yield from (places[:at] + kind([other]) + places[at:] for other in list(range(web[0] + 1)) + [None, True, ""])
-    yield from (places + kind([other]) for other in range(-1, web[0] + 1))
 
 
 def spoilt_parts(web, parts):

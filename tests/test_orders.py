@@ -8,17 +8,9 @@ from pointedties.orders import heights, longest_chain, lots_by, widest
 from pointedties.pointings import by_row, turned_about
 from pointedties.webs import gaps_of
 from tests.samples import (
-    all_webs, beside, five_webs, full, groups, led_by_bundles, led_by_words, line, rising_lists, star, tied_together,
+    all_webs, beside, chains_by_words, five_webs, full, groups, led_by_bundles, led_by_words, line, rising_lists, star, tied_together,
     twelve_webs,
 )
-
-
-def chains_by_words(web, pointing):
-    """All chains of a led pointing, as tuples rise, put together place by place."""
-    found = [(place,) for place in range(web[0])]
-    for chain in found:
-        found += [chain + (b,) for a, b in pointing if a == chain[-1]]
-    return sorted(found)
 
 
 def has_no_ties(web, places):

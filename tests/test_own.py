@@ -12,13 +12,17 @@ from pointedties.orders import heights, longest_chain, lots_by, widest
 from pointedties.pointings import turned_about
 from pointedties.rows import crossed_pointing, crossed_web, crossings
 from pointedties.stretches import apart_pointing, apart_web, stretches_for
+from pointedties.turncheck import shows_turns
+from pointedties.turning import many_turns, may_turn, turns, with_turn
+from pointedties.tworows import most_apart, shows_rows, two_rows
 from pointedties.waycheck import shows_round, shows_way
 from pointedties.ways import all_ways, common_to, count_ways
 from pointedties.webfew import fewest_groups, greatest_tied, greatest_untied, is_shared
+from pointedties.webs import gaps_of
 from tests.samples import all_arrows, beside, full, groups, line, ring
 
-WEBS = ((0, ()), (1, ()), (4, ()), line(2), line(4), line(12), ring(5), ring(7), full(4), full(12), groups(1, 2, 2),
-        beside(ring(5), line(3)), beside(line(3), ring(5)))
+WEBS = ((0, ()), (1, ()), (4, ()), line(2), line(4), line(12), ring(5), ring(6), ring(7), full(4), full(12),
+        groups(1, 2, 2), beside(ring(5), line(3)), beside(line(3), ring(5)))
 
 
 def questions(web):
@@ -40,7 +44,11 @@ def questions(web):
         yield from ((places_in, (tree,)), (shows_parts, (web, tree)), (shows_parts, (web, [[tree], tree[1]])))
         if tree[0] != "place":
             yield shape_of, (web, tree)
-    yield from ((count_ways, (web,)), (stretches_for, (web,)))
+    yield from ((count_ways, (web,)), (stretches_for, (web,)), (two_rows, (web,)))
+    row = list(range(web[0]))
+    yield from ((shows_rows, (web, (row, row[::-1]))), (shows_rows, (web, [list(row), [row[:1]]])))
+    if can_be_pointed(gaps_of(web)):
+        yield most_apart, (web,)
     yield from questions_of_rows(web[0])
     if web[0] <= 7:
         yield all_ways, (web,)
@@ -49,6 +57,7 @@ def questions(web):
         yield from questions_of_pointing(web, first)
         yield from questions_of_pointing(web, turned_about(first))
         yield common_to, (web, [first, turned_about(first)])
+        yield from questions_of_turns(web, first, turned_about(first))
         for ask in (greatest_tied, fewest_groups, greatest_untied, is_shared):
             yield ask, (web,)
 
@@ -71,6 +80,14 @@ def questions_of_pointing(web, pointing):
     lot, chains = widest(web, pointing)
     yield shows_widest, (web, lot, chains)
     yield shows_longest, (web, list(lot), [list(chain) for chain in chains])
+
+
+def questions_of_turns(web, one, other):
+    for tie in web[1][::5]:
+        yield with_turn, (web, one, tie)
+    yield from ((may_turn, (web, one)), (turns, (web, one, one)), (turns, (web, one, other)))
+    yield from ((many_turns, (web, one, other)), (shows_turns, (web, one, other, turns(web, one, other))))
+    yield shows_turns, (web, one, other, [[list(tie) for tie in web[1]], list(web[1])])
 
 
 def lists_in(told):
@@ -150,6 +167,10 @@ class OwnTest(unittest.TestCase):
             if kind == "stretches":
                 self.assertEqual(apart_web(told), web)
                 self.assertEqual(stretches_for(apart_web(told)), (kind, told))
+            told = two_rows(web)
+            if told[0] == "rows":
+                self.assertIs(shows_rows(web, told[1:]), True)
+                self.assertEqual(two_rows(crossed_web(told[1], told[2])), told)
             row = list(range(web[0]))
             self.assertEqual([crossings(row, row), crossed_web(row, row)], [[], (web[0], ())])
 

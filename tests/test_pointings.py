@@ -2,7 +2,7 @@ import unittest
 from itertools import permutations
 
 from pointedties.pointings import by_row, first_break, is_led, is_pointing, row_by, turned_about
-from tests.samples import all_pointings, odd_things, small_webs
+from tests.samples import all_pointings, odd_things, rows_by_words, small_webs
 
 PATH = (4, ((0, 1), (1, 2), (2, 3)))
 PAIR = (2, ((0, 1),))
@@ -17,12 +17,6 @@ def breaks(web, pointing):
         (a, b, c) for a in places for b in places for c in places
         if (a, b) in pointing and (b, c) in pointing and (a, c) not in pointing
     ]
-
-
-def all_rows(web, pointing):
-    """All rows that a pointing lets stand, gone through list by list."""
-    rows = [list(row) for row in permutations(range(web[0]))]
-    return [row for row in rows if all(row.index(a) < row.index(b) for a, b in pointing)]
 
 
 class IsPointingTest(unittest.TestCase):
@@ -189,7 +183,7 @@ class RowByTest(unittest.TestCase):
         for web in small_webs():
             for pointing in all_pointings(web):
                 if not breaks(web, pointing):
-                    self.assertEqual(row_by(web, pointing), min(all_rows(web, pointing)))
+                    self.assertEqual(row_by(web, pointing), min(rows_by_words(web, pointing)))
 
     def test_there_and_back(self):
         for web in small_webs():

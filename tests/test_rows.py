@@ -1,21 +1,11 @@
 import unittest
-from itertools import combinations, permutations, product
+from itertools import combinations, product
 
 from pointedties.leading import can_be_pointed
 from pointedties.pointings import is_led, is_pointing
 from pointedties.rows import crossed_pointing, crossed_web, crossings
 from pointedties.webs import gaps_of, is_web
-from tests.samples import full
-
-TWELVES = (
-    list(range(12)), list(range(11, -1, -1)), [7, 0, 11, 3, 5, 1, 9, 2, 10, 4, 8, 6],
-    [1, 0, 3, 2, 5, 4, 7, 6, 9, 8, 11, 10], [6, 7, 8, 9, 10, 11, 0, 1, 2, 3, 4, 5],
-    [11, 9, 10, 6, 8, 7, 3, 5, 4, 0, 2, 1], [0, 2, 4, 6, 8, 10, 1, 3, 5, 7, 9, 11],
-)
-
-
-def all_rows(many):
-    return [list(row) for row in permutations(range(many))]
+from tests.samples import TWELVE_ROWS, all_rows, full
 
 
 def row_pairs():
@@ -24,7 +14,7 @@ def row_pairs():
         yield from product(all_rows(many), repeat=2)
     for many, step in ((5, 137), (6, 4999)):
         yield from list(product(all_rows(many), repeat=2))[::step]
-    yield from product(TWELVES, repeat=2)
+    yield from product(TWELVE_ROWS, repeat=2)
 
 
 def ahead(row, a, b):
@@ -70,13 +60,13 @@ class CrossedTest(unittest.TestCase):
             self.assertTrue(can_be_pointed(web))
 
     def test_a_row_with_itself(self):
-        for row in all_rows(4) + list(TWELVES):
+        for row in all_rows(4) + list(TWELVE_ROWS):
             self.assertEqual(crossed_web(row, row), (len(row), ()))
             self.assertEqual(crossed_pointing(row, row), ())
             self.assertEqual(crossed_web(row, list(row)), (len(row), ()))
 
     def test_a_row_with_itself_turned_about(self):
-        for row in all_rows(4) + list(TWELVES):
+        for row in all_rows(4) + list(TWELVE_ROWS):
             self.assertEqual(crossed_web(row, row[::-1]), full(len(row)))
             self.check(row, row[::-1])
 
@@ -122,7 +112,7 @@ class CrossingsTest(unittest.TestCase):
             self.assertEqual(self.check(row, list(range(5))), min(shortest_crossings(row, list(range(5)))))
 
     def test_no_exchange(self):
-        for row in ([], [0]) + TWELVES:
+        for row in ([], [0]) + TWELVE_ROWS:
             self.assertEqual(crossings(row, row), [])
             self.assertEqual(crossings(row, list(row)), [])
 

@@ -1,23 +1,16 @@
 import unittest
-from itertools import combinations
 
 from pointedties.errors import Barred, TieError
 from pointedties.leading import can_be_pointed, pointed
 from pointedties.orders import longest_chain, lots_by, widest
 from pointedties.webfew import fewest_groups, greatest_tied, greatest_untied, is_shared
-from pointedties.webs import gaps_of, put_for, tied
+from pointedties.webs import gaps_of, put_for
 from tests.samples import (
-    all_webs, barred_webs, beside, five_webs, full, groups, line, odd_things, ring, rising_lists, star, tied_together,
-    twelve_webs,
+    all_webs, barred_webs, beside, five_webs, full, groups, line, odd_things, ring, star, tied_sets,
+    tied_together, twelve_webs,
 )
 
 ASKS = (greatest_tied, fewest_groups, greatest_untied, is_shared)
-
-
-def tied_sets(web):
-    """All rising lists of places of which each two are tied, that of no places too."""
-    lists = rising_lists(range(web[0]))
-    return [places for places in lists if all(tied(web, a, b) for a, b in combinations(places, 2))]
 
 
 def untied_sets(web):
