@@ -4,9 +4,7 @@ from pointedties.errors import Full, NoPlace, NoTie, Tied
 from pointedties.forcings import classes
 from pointedties.leading import first_led, pointed
 from pointedties.ways import count_ways
-from pointedties.webs import is_place, tie_of, tied
-
-MOST = 12
+from pointedties.webs import MOST, is_place, tie_of, tied, with_tie, without_tie
 
 
 class Kept:
@@ -15,7 +13,7 @@ class Kept:
     def __init__(self, many):
         # The webs ahead of each change that is still done, and the web now.
         self.webs = [(many, ())]
-        # The arrows of the first led pointing when the web last was led; taking changes back leaves that time as it is.
+        # The arrows of the first led pointing when the web last was led in time, be it behind a change or an undo.
         self.arrows = {}
 
     def put_place(self):
@@ -33,7 +31,7 @@ class Kept:
         check_places(web, a, b)
         if tied(web, a, b):
             raise Tied(f"{a} and {b} are tied already")
-        self.webs.append((web[0], tuple(sorted(web[1] + (tie_of(a, b),)))))
+        self.webs.append(with_tie(web, tie_of(a, b)))
         return self.look_again()
 
     def cut_tie(self, a, b):
@@ -42,7 +40,7 @@ class Kept:
         check_places(web, a, b)
         if not tied(web, a, b):
             raise NoTie(f"{a} and {b} are not tied")
-        self.webs.append((web[0], tuple([tie for tie in web[1] if tie != tie_of(a, b)])))
+        self.webs.append(without_tie(web, tie_of(a, b)))
         return self.look_again()
 
     def web_now(self):

@@ -1,29 +1,17 @@
 """The order behind a led pointing: its chains, and the lots that no ties join."""
 
-from pointedties.pointings import ends_from, row_by, turned_about
+from pointedties.pointings import ends_from
+from pointedties.weighed import heaviest_chain, weighed_heights
 
 
 def heights(web, pointing):
     """For each place one less than how many places the longest chain has that ends there."""
-    begins = ends_from(web[0], turned_about(pointing))
-    told = [0] * web[0]
-    for place in row_by(web, pointing):
-        told[place] = max([told[begin] + 1 for begin in begins[place]], default=0)
-    return told
+    return [height - 1 for height in weighed_heights(web, pointing, [1] * web[0])]
 
 
 def longest_chain(web, pointing):
     """The chain with the most places, the first of several as tuples rise; () of no places."""
-    # How many places can still come behind each one.
-    left = heights(web, turned_about(pointing))
-    ends = ends_from(web[0], pointing)
-    chain = []
-    choice = list(range(web[0]))
-    while choice:
-        place = min(choice, key=lambda p: (-left[p], p))
-        chain.append(place)
-        choice = ends[place]
-    return tuple(chain)
+    return heaviest_chain(web, pointing, [1] * web[0])
 
 
 def lots_by(web, pointing):

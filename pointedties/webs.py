@@ -2,6 +2,9 @@
 
 from pointedties.kinds import is_number, is_pair
 
+# So many places a web has at most where one is kept, or told by a sheet.
+MOST = 12
+
 
 def is_web(thing):
     """Whether a thing is a web, of however many places."""
@@ -33,6 +36,18 @@ def tied(web, a, b):
 
 def tie_of(a, b):
     return (a, b) if a < b else (b, a)
+
+
+def with_tie(web, tie):
+    """The web with one tie more."""
+    many, ties = web
+    return (many, tuple(sorted(ties + (tie,))))
+
+
+def without_tie(web, tie):
+    """The web without one of its ties."""
+    many, ties = web
+    return (many, tuple([other for other in ties if other != tie]))
 
 
 def gaps_of(web):

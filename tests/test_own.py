@@ -3,6 +3,8 @@
 import unittest
 from copy import deepcopy
 
+from pointedties.allrows import count_rows, number_of_row, often_ahead, row_at
+from pointedties.errors import BadRow
 from pointedties.forcings import bundles, class_of, classes, forced, forcing_way
 from pointedties.leading import can_be_pointed, extended, pointed, settled
 from pointedties.modulecheck import shows_parts
@@ -11,6 +13,7 @@ from pointedties.ordercheck import shows_longest, shows_widest
 from pointedties.orders import heights, longest_chain, lots_by, widest
 from pointedties.pointings import turned_about
 from pointedties.rows import crossed_pointing, crossed_web, crossings
+from pointedties.sheet import run
 from pointedties.stretches import apart_pointing, apart_web, stretches_for
 from pointedties.turncheck import shows_turns
 from pointedties.turning import many_turns, may_turn, turns, with_turn
@@ -19,6 +22,8 @@ from pointedties.waycheck import shows_round, shows_way
 from pointedties.ways import all_ways, common_to, count_ways
 from pointedties.webfew import fewest_groups, greatest_tied, greatest_untied, is_shared
 from pointedties.webs import gaps_of
+from pointedties.weighcheck import shows_weighed
+from pointedties.weighed import heaviest_chain, weighed_heights, weighed_lots
 from tests.samples import all_arrows, beside, full, groups, line, ring
 
 WEBS = ((0, ()), (1, ()), (4, ()), line(2), line(4), line(12), ring(5), ring(6), ring(7), full(4), full(12),
@@ -50,6 +55,7 @@ def questions(web):
     if can_be_pointed(gaps_of(web)):
         yield most_apart, (web,)
     yield from questions_of_rows(web[0])
+    yield run, (sheet_of(web),)
     if web[0] <= 7:
         yield all_ways, (web,)
     if can_be_pointed(web):
@@ -60,6 +66,13 @@ def questions(web):
         yield from questions_of_turns(web, first, turned_about(first))
         for ask in (greatest_tied, fewest_groups, greatest_untied, is_shared):
             yield ask, (web,)
+
+
+def sheet_of(web):
+    """A sheet with all asks of a web."""
+    ties = [" ".join(["tie"] + [f"{b}-{a}" for a, b in web[1]])] if web[1] else []
+    asks = ["led", "classes", "count", "parts", "chain", "groups", "rows", "stretches"]
+    return "\n".join([f"web {web[0]}"] + ties + asks)
 
 
 def questions_of_rows(many):
@@ -80,6 +93,29 @@ def questions_of_pointing(web, pointing):
     lot, chains = widest(web, pointing)
     yield shows_widest, (web, lot, chains)
     yield shows_longest, (web, list(lot), [list(chain) for chain in chains])
+    yield from questions_of_weights(web, pointing)
+    yield from questions_of_all_rows(web, pointing)
+
+
+def questions_of_weights(web, pointing):
+    for weights in ([1] * web[0], [0] * web[0], [(7 * place + 3) % 5 for place in range(web[0])]):
+        for ask in (weighed_heights, heaviest_chain, weighed_lots):
+            yield ask, (web, pointing, list(weights))
+        chain, lots = heaviest_chain(web, pointing, weights), weighed_lots(web, pointing, weights)
+        other = [[list(lot), [times]] for lot, times in lots]
+        yield shows_weighed, (web, list(weights), chain, lots)
+        yield shows_weighed, (web, list(weights), chain, other)
+
+
+def questions_of_all_rows(web, pointing):
+    many = count_rows(web, pointing)
+    yield count_rows, (web, pointing)
+    for k in sorted({0, many // 2, many - 1, many}):
+        yield row_at, (web, pointing, k)
+    yield number_of_row, (web, pointing, row_at(web, pointing, many // 2))
+    yield number_of_row, (web, pointing, list(range(web[0])))
+    if web[0] > 1:
+        yield from ((often_ahead, (web, pointing, 0, web[0] - 1)), (often_ahead, (web, pointing, 1, 0)))
 
 
 def questions_of_turns(web, one, other):
@@ -173,6 +209,28 @@ class OwnTest(unittest.TestCase):
                 self.assertEqual(two_rows(crossed_web(told[1], told[2])), told)
             row = list(range(web[0]))
             self.assertEqual([crossings(row, row), crossed_web(row, row)], [[], (web[0], ())])
+            if can_be_pointed(web):
+                self.check_orders_handed_in_again(web, pointed(web)[1])
+
+    def check_orders_handed_in_again(self, web, pointing):
+        row = row_at(web, pointing, 0)
+        self.assertEqual(number_of_row(web, pointing, row), 0)
+        self.assertEqual(row_at(web, pointing, number_of_row(web, pointing, row)), row)
+        tall = weighed_heights(web, pointing, [1] * web[0])
+        chain, lots = heaviest_chain(web, pointing, tall), weighed_lots(web, pointing, tall)
+        self.assertIs(shows_weighed(web, tall, chain, lots), True)
+
+    def test_a_refused_sheet_changes_nothing(self):
+        for web in WEBS:
+            told = run(sheet_of(web))
+            before = list(told)
+            for _ in range(2):
+                with self.assertRaises(BadRow) as caught:
+                    run(sheet_of(web) + "\nbad\n")
+                self.assertEqual(caught.exception.row, sheet_of(web).count("\n") + 1)
+                caught.exception.row = None
+            self.assertEqual(told, before)
+            self.assertEqual(run(sheet_of(web)), before)
 
     def test_another_pointing_asked_between(self):
         for web in WEBS:
